@@ -1,0 +1,1 @@
+"""Roundfence: two readers on two rounds, and what bars them."""

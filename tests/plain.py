@@ -1,0 +1,188 @@
+"""What the tests hold the program against: plain going, and the boards to try it on.
+
+Nothing here uses the program. A board is a triple (first, second, rows) here.
+"""
+
+import itertools
+import signal
+import unittest
+
+WORDS = ("first", "second", "other")
+LASTS = ("first", "second")
+
+
+class PromptCase(unittest.TestCase):
+    """Tests that fail, instead of going on for ever, where the program isn't prompt."""
+
+    def setUp(self):
+        signal.signal(signal.SIGALRM, self.too_long)
+        signal.alarm(30)
+        self.addCleanup(signal.alarm, 0)
+
+    def too_long(self, number, frame):
+        raise AssertionError("the program does not answer promptly")
+
+
+def plain_word(triple, i, j):
+    first, second, rows = triple
+    for a, b, word in rows:
+        if a == first[i] and b == second[j]:
+            return word
+    return "other"
+
+
+def plain_tick(triple, standing):
+    first, second, _ = triple
+    i, j, last = standing
+    word = plain_word(triple, i, j)
+    if word == "other":
+        word = "second" if last == "first" else "first"
+    if word == "first":
+        i += 1
+        if i == len(first):
+            i = 0
+    else:
+        j += 1
+        if j == len(second):
+            j = 0
+    return (i, j, word)
+
+
+def plain_walk(triple, standing, ticks):
+    """What is told behind 0, 1 .. ticks, one after the other."""
+    told = [(standing, 0, 0)]
+    steps = {"first": 0, "second": 0}
+    for _ in range(ticks):
+        standing = plain_tick(triple, standing)
+        steps[standing[2]] += 1
+        told.append((standing, steps["first"], steps["second"]))
+    return told
+
+
+def plain_standings(triple):
+    first, second, _ = triple
+    return [(i, j, last) for i in range(len(first)) for j in range(len(second)) for last in LASTS]
+
+
+def plain_trips(triple):
+    """All trips: whoever is gone on with for as many ticks as there are standings is in one."""
+    standings = plain_standings(triple)
+    after = {standing: plain_tick(triple, standing) for standing in standings}
+    found = []
+    for standing in standings:
+        at = standing
+        for _ in standings:
+            at = after[at]
+        trip = [at]
+        while after[trip[-1]] != at:
+            trip.append(after[trip[-1]])
+        while trip[0] != min(trip):
+            trip.append(trip.pop(0))
+        if trip not in found:
+            found.append(trip)
+    return sorted(found)
+
+
+def plain_comes_to(triple, found, standing):
+    ticks = 0
+    while True:
+        for number, trip in enumerate(found):
+            if standing in trip:
+                return (number, ticks)
+        standing = plain_tick(triple, standing)
+        ticks += 1
+
+
+def plain_far(triple, ticks):
+    """What is told of each standing behind however many ticks, by doubling jumps."""
+    told = {standing: (standing, 0, 0) for standing in plain_standings(triple)}
+    jump = {}
+    for standing in told:
+        at = plain_tick(triple, standing)
+        jump[standing] = (at, int(at[2] == "first"), int(at[2] == "second"))
+    while ticks:
+        if ticks % 2:
+            told = joined(told, jump)
+        jump = joined(jump, jump)
+        ticks //= 2
+    return told
+
+
+def joined(one, other):
+    """The jumps of one and then of the other."""
+    both = {}
+    for standing, (at, m, n) in one.items():
+        end, more_m, more_n = other[at]
+        both[standing] = (end, m + more_m, n + more_n)
+    return both
+
+
+def all_rules(firsts, seconds):
+    """All rules over the pairs of these letters, those without a row for a pair left out."""
+    pairs = [(a, b) for a in firsts for b in seconds]
+    for words in itertools.product(WORDS, repeat=len(pairs)):
+        yield [(a, b, word) for (a, b), word in zip(pairs, words)]
+
+
+class Picks:
+    """Numbers that look picked by chance and are the same at each run."""
+
+    def __init__(self, start):
+        self.state = start
+
+    def below(self, n):
+        self.state = (self.state * 6364136223846793005 + 1442695040888963407) % 2 ** 64
+        return (self.state >> 33) % n
+
+    def text(self, length, letters):
+        return "".join(letters[self.below(len(letters))] for _ in range(length))
+
+    def rows(self, letters, most):
+        """Up to so many rows, in no order, each pair once."""
+        pairs = [(a, b) for a in letters for b in letters]
+        rows = []
+        for _ in range(self.below(most + 1)):
+            a, b = pairs.pop(self.below(len(pairs)))
+            rows.append((a, b, WORDS[self.below(3)]))
+        return rows
+
+    def triple(self, longest):
+        letters = "abcdef"[:1 + self.below(6)]
+        first = self.text(1 + self.below(longest), letters)
+        second = self.text(1 + self.below(longest), letters)
+        return (first, second, self.rows(letters, len(letters) ** 2))
+
+
+def small_triples():
+    """Small boards: every rule over a few rounds, the edges, and many that are picked."""
+    triples = []
+    for first, second in (("a", "b"), ("ab", "ab"), ("aab", "ba"), ("abb", "aabab")):
+        for rows in all_rules(sorted(set(first)), sorted(set(second))):
+            triples.append((first, second, rows))
+    for first in ("a", "aa", "aaa", "ab", "abcdef"):
+        for second in ("a", "aa", "b", "abba"):
+            triples.append((first, second, []))
+            for word in WORDS:
+                rows = [(a, b, word) for a in "abcdef" for b in "abcdef"]
+                triples.append((first, second, rows))
+    picks = Picks(7)
+    triples.extend(picks.triple(7) for _ in range(150))
+    return triples
+
+
+def long_triples():
+    """Boards with rounds of one letter and of forty, as long as the document lets them be."""
+    picks = Picks(40)
+    cycle = ("abcdef" * 7)[:40]
+    triples = [
+        ("a" * 40, "b" * 40, []),
+        ("a" * 40, "b" * 39, []),
+        ("a", "b" * 40, [("a", "b", "first")]),
+        ("a" * 40, "b", [("a", "b", "second")]),
+        ("a" * 39 + "b", "a" * 39 + "b", [("a", "a", "first"), ("b", "a", "second")]),
+        (cycle, cycle[::-1], [(a, b, WORDS[(ord(a) * 5 + ord(b)) % 3]) for a in "abcdef" for b in "abcdef"]),
+    ]
+    for letters in ("abcdef", "abc", "abcdef"):
+        pairs = len(letters) ** 2
+        triples.append((picks.text(40, letters), picks.text(40, letters), picks.rows(letters, pairs)))
+    return triples
