@@ -188,7 +188,8 @@ class PaceTest(PromptCase):
 class ComesToTest(PromptCase):
 
     def test_ways_by_hand(self):
-        board = Board("abc", "ab", [("a", "a", "second"), ("a", "b", "first"), ("b", "b", "first"), ("c", "b", "first")])
+        rows = [("a", "a", "second"), ("a", "b", "first"), ("b", "b", "first"), ("c", "b", "first")]
+        board = Board("abc", "ab", rows)
         # All come to the row of the second round's place 1, where the first reader goes on for ever.
         self.assertEqual(trips(board), [[(0, 1, "first"), (1, 1, "first"), (2, 1, "first")]])
         self.assertEqual(comes_to(board, (0, 1, "first")), (0, 0))
