@@ -23,6 +23,16 @@ class PromptCase(unittest.TestCase):
         raise AssertionError("the program does not answer promptly")
 
 
+class RefusalCase(PromptCase):
+
+    def refused(self, kind, what, call, *told, **named):
+        with self.assertRaises(kind) as caught:
+            call(*told, **named)
+        self.assertIs(type(caught.exception), kind)
+        self.assertEqual(caught.exception.what, what)
+        self.assertIs(type(caught.exception.what), type(what))
+
+
 def plain_word(triple, i, j):
     first, second, rows = triple
     for a, b, word in rows:
@@ -93,6 +103,124 @@ def plain_comes_to(triple, found, standing):
         ticks += 1
 
 
+def plain_step_back(triple, place):
+    """The place that follows backwards."""
+    first, second, _ = triple
+    i, j = place
+    back = ((i or len(first)) - 1, (j or len(second)) - 1)
+    return {"first": (back[0], j), "second": (i, back[1]), "other": back}[plain_word(triple, i, j)]
+
+
+def plain_places(triple):
+    first, second, _ = triple
+    return [(i, j) for i in range(len(first)) for j in range(len(second))]
+
+
+def plain_fences(triple):
+    """All fences: whoever goes back by as many steps as there are places is in one."""
+    places = plain_places(triple)
+    before = {place: plain_step_back(triple, place) for place in places}
+    found = []
+    for place in places:
+        at = place
+        for _ in places:
+            at = before[at]
+        fence = [at]
+        while before[fence[-1]] != at:
+            fence.append(before[fence[-1]])
+        while fence[0] != min(fence):
+            fence.append(fence.pop(0))
+        if fence not in found:
+            found.append(fence)
+    return sorted(found)
+
+
+def plain_fence_of(triple, found, place):
+    ticks = 0
+    while True:
+        for number, fence in enumerate(found):
+            if place in fence:
+                return (number, ticks)
+        place = plain_step_back(triple, place)
+        ticks += 1
+
+
+def plain_column(triple, found, barring, i):
+    """Height by height, what of the trips and fences found the first reader steps over from the place i."""
+    marks = []
+    for j in range(len(triple[1])):
+        for number, trip in enumerate(found):
+            for last in LASTS:
+                if (i, j, last) in trip and plain_tick(triple, (i, j, last))[2] == "first":
+                    marks.append((j, "trip", number))
+        for number, fence in enumerate(barring):
+            if (i, j) in fence and plain_word(triple, i, j) in ("first", "other"):
+                marks.append((j, "fence", number))
+    return marks
+
+
+def plain_row(triple, found, barring, j):
+    """Place by place, what of the trips and fences found the second reader steps over from the place j."""
+    marks = []
+    for i in range(len(triple[0])):
+        for number, trip in enumerate(found):
+            for last in LASTS:
+                if (i, j, last) in trip and plain_tick(triple, (i, j, last))[2] == "second":
+                    marks.append((i, "trip", number))
+        for number, fence in enumerate(barring):
+            if (i, j) in fence and plain_word(triple, i, j) in ("second", "other"):
+                marks.append((i, "fence", number))
+    return marks
+
+
+def plain_meet(triple, found, one, other):
+    """What is told of two standings, by going with both."""
+    enough = 2 * len(triple[0]) * len(triple[1])
+    ways = [[at for at, _, _ in plain_walk(triple, start, enough)] for start in (one, other)]
+    for n, at in enumerate(ways[0]):
+        if at in ways[1]:
+            return ("together", n, ways[1].index(at))
+    return ("apart",) + tuple(plain_comes_to(triple, found, start)[0] for start in (one, other))
+
+
+def plain_rounds_by(triple, standing, rounds):
+    """What is told of some rounds, tick by tick."""
+    first, second, _ = triple
+    steps = {"first": 0, "second": 0}
+    waited = 0
+    while steps["first"] < rounds * len(first):
+        standing = plain_tick(triple, standing)
+        steps[standing[2]] += 1
+        waited = 0 if standing[2] == "first" else waited + 1
+        # So many ticks without the first reader are a trip without it.
+        if waited > 2 * len(first) * len(second):
+            return None
+    return steps["second"] // len(second)
+
+
+def plain_rounds_far(triple, rounds):
+    """What is told of each standing for however many rounds, by doubling jumps of whole rounds."""
+    told = {standing: (standing, 0, 0) for standing in plain_standings(triple)}
+    jump = {standing: plain_round(triple, standing) for standing in told}
+    while rounds:
+        if rounds % 2:
+            told = joined(told, jump)
+        jump = joined(jump, jump)
+        rounds //= 2
+    return {standing: steps and steps[2] // len(triple[1]) for standing, steps in told.items()}
+
+
+def plain_round(triple, standing):
+    """The jump over one round of the first reader, None where it never does one."""
+    steps = {"first": 0, "second": 0}
+    for _ in range(2 * len(triple[0]) * (len(triple[1]) + 1)):
+        standing = plain_tick(triple, standing)
+        steps[standing[2]] += 1
+        if steps["first"] == len(triple[0]):
+            return (standing, steps["first"], steps["second"])
+    return None
+
+
 def plain_far(triple, ticks):
     """What is told of each standing behind however many ticks, by doubling jumps."""
     told = {standing: (standing, 0, 0) for standing in plain_standings(triple)}
@@ -109,11 +237,11 @@ def plain_far(triple, ticks):
 
 
 def joined(one, other):
-    """The jumps of one and then of the other."""
+    """The jumps of one and then of the other, None where there is no such jump."""
     both = {}
-    for standing, (at, m, n) in one.items():
-        end, more_m, more_n = other[at]
-        both[standing] = (end, m + more_m, n + more_n)
+    for standing, jump in one.items():
+        more = jump and other[jump[0]]
+        both[standing] = more and (more[0], jump[1] + more[1], jump[2] + more[2])
     return both
 
 

@@ -4,20 +4,10 @@ import unittest
 
 from roundfence.boards import Board
 from roundfence.errors import NoLast, NoPlace, NoRound, NoRow, NoTicks
-from tests.plain import (LASTS, WORDS, Picks, PromptCase, long_triples, plain_far, plain_standings, plain_walk,
+from tests.plain import (LASTS, WORDS, Picks, RefusalCase, long_triples, plain_far, plain_standings, plain_walk,
                          plain_word, small_triples)
 
 MANY = 987654321098765432109876543210987654321098765432109876543210
-
-
-class RefusalCase(PromptCase):
-
-    def refused(self, kind, what, call, *told, **named):
-        with self.assertRaises(kind) as caught:
-            call(*told, **named)
-        self.assertIs(type(caught.exception), kind)
-        self.assertEqual(caught.exception.what, what)
-        self.assertIs(type(caught.exception.what), type(what))
 
 
 class InterfaceTest(unittest.TestCase):

@@ -8,8 +8,8 @@ from roundfence import trips as trips_file
 from roundfence.boards import Board
 from roundfence.errors import NoLast, NoPlace
 from roundfence.trips import comes_to, pace, trips
-from tests.plain import (LASTS, WORDS, Picks, PromptCase, all_rules, long_triples, plain_comes_to, plain_standings,
-                         plain_tick, plain_trips, small_triples)
+from tests.plain import (LASTS, WORDS, Picks, PromptCase, RefusalCase, all_rules, long_triples, plain_comes_to,
+                         plain_standings, plain_tick, plain_trips, small_triples)
 
 PAIRS = [(a, b) for a in "abcdef" for b in "abcdef"]
 
@@ -185,7 +185,7 @@ class PaceTest(PromptCase):
             self.assertEqual(pace(turned), (q, p))
 
 
-class ComesToTest(PromptCase):
+class ComesToTest(RefusalCase):
 
     def test_ways_by_hand(self):
         rows = [("a", "a", "second"), ("a", "b", "first"), ("b", "b", "first"), ("c", "b", "first")]
@@ -226,20 +226,14 @@ class ComesToTest(PromptCase):
                     before = board.go(standing, ticks - 1)[0]
                     self.assertFalse([trip for trip in found if before in trip])
 
-    def refused(self, kind, what, board, standing):
-        with self.assertRaises(kind) as caught:
-            comes_to(board, standing)
-        self.assertIs(type(caught.exception), kind)
-        self.assertEqual(caught.exception.what, what)
-
     def test_refused(self):
         board = Board("aba", "ab", [("a", "b", "first")])
         for i, j in ((-1, 0), (0, -1), (3, 0), (0, 2), (3, 2), (-3, -2), (2, 2), (9, 9)):
             for last in LASTS + ("other", ""):
-                self.refused(NoPlace, (i, j), board, (i, j, last))
+                self.refused(NoPlace, (i, j), comes_to, board, (i, j, last))
         for last in ("other", "", "third", "Second"):
-            self.refused(NoLast, last, board, (2, 1, last))
-            self.refused(NoLast, last, board, (0, 0, last))
+            self.refused(NoLast, last, comes_to, board, (2, 1, last))
+            self.refused(NoLast, last, comes_to, board, (0, 0, last))
 
 
 class OwnListsTest(PromptCase):
