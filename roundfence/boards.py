@@ -6,6 +6,46 @@ FIRST = "first"
 SECOND = "second"
 OTHER = "other"
 
+# How many standings the walks that a board keeps may have in all.
+KEPT = 100000
+
+
+class Walk:
+    """A walk as far as it was asked for, kept so that no tick of it is gone twice."""
+
+    def __init__(self, standing):
+        self.origin = standing
+        self.at = standing
+        # The first reader's steps behind 0, 1, 2 .. ticks: all else follows from these.
+        self.firsts = [0]
+        # Behind how many ticks there was a standing with which a reader began its round.
+        self.begun = {}
+        # Once such a one has come again: the ticks behind which it first was, and from then to again.
+        self.since = 0
+        self.lap = 0
+
+    def begins(self, standing, ticks):
+        """Note a standing with which a reader begins its round, and tell whether it has come again."""
+        if standing not in self.begun:
+            self.begun[standing] = ticks
+            return False
+        self.since = self.begun[standing]
+        self.lap = ticks - self.since
+        return True
+
+    def behind(self, ticks):
+        """The first reader's steps behind so many ticks, and who stepped last."""
+        if ticks == 0:
+            return 0, self.origin[2]
+        laps = 0
+        if ticks >= len(self.firsts):
+            # The walk has come again, so the rest is the same trip over and over.
+            laps = (ticks - self.since) // self.lap
+        at = ticks - laps * self.lap
+        firsts = self.firsts[at]
+        last = FIRST if firsts > self.firsts[at - 1] else SECOND
+        return firsts + laps * (self.firsts[-1] - self.firsts[self.since]), last
+
 
 class Board:
     """Two rounds of letters and a rule that tells who steps where."""
@@ -15,6 +55,7 @@ class Board:
         self._first = first
         self._second = second
         self._words = words_by_pair(rule)
+        self._walks = {}
 
     def first(self):
         """The first round's letters."""
@@ -37,19 +78,57 @@ class Board:
 
     def go(self, standing, ticks):
         """The standing behind the ticks, and the steps of each reader by then."""
-        check_standing(self, standing)
+        walk = self._walks.get(standing)
+        if walk is None:
+            check_standing(self, standing)
         if ticks < 0:
             raise NoTicks(ticks)
-        path = path_from(self, standing, ticks)
-        if ticks < len(path):
-            firsts = first_steps(path[1:ticks + 1])
-            return path[ticks], firsts, ticks - firsts
-        # The path stops where it comes again, so the rest is the same trip over and over.
-        start = path.index(path[-1])
-        trip = path[start + 1:]
-        times, over = divmod(ticks - start, len(trip))
-        firsts = first_steps(path[1:start + over + 1]) + times * first_steps(trip)
-        return path[start + over], firsts, ticks - firsts
+        if walk is None:
+            walk = self._new_walk(standing)
+        if ticks >= len(walk.firsts) and walk.lap == 0:
+            self._walk_on(walk, ticks)
+        firsts, last = walk.behind(ticks)
+        seconds = ticks - firsts
+        i, j, _ = standing
+        return ((i + firsts) % len(self._first), (j + seconds) % len(self._second), last), firsts, seconds
+
+    def _new_walk(self, standing):
+        """A walk of no ticks yet, kept for whoever asks for more of it."""
+        standings = 2 * len(self._first) * len(self._second)
+        if (len(self._walks) + 1) * standings > KEPT:
+            self._walks = {}
+        i, j, last = standing
+        # Its own tuple, so that nothing that was handed in is kept.
+        own = (i, j, last)
+        walk = Walk(own)
+        self._walks[own] = walk
+        return walk
+
+    def _walk_on(self, walk, ticks):
+        """Go on with a walk to so many ticks, or to where it comes again."""
+        first, second, words = self._first, self._second, self._words
+        a, b = len(first), len(second)
+        i, j, last = walk.at
+        firsts = walk.firsts[-1]
+        known = len(walk.firsts)
+        # Behind as many ticks as there are standings it is in its trip, and soon begins a round again.
+        most = 2 * a * b + a + b
+        for gone in range(known, min(ticks, most) + 1):
+            word = words.get((first[i], second[j]), OTHER)
+            if word == FIRST or (word == OTHER and last == SECOND):
+                i += 1
+                firsts += 1
+                last = FIRST
+            else:
+                j += 1
+                last = SECOND
+            walk.firsts.append(firsts)
+            # Each trip goes round, so it is enough to look where a reader begins its round.
+            if i == a or j == b:
+                i, j = i % a, j % b
+                if walk.begins((i, j, last), gone):
+                    return
+        walk.at = (i, j, last)
 
     def __eq__(self, other):
         return (isinstance(other, Board) and self._first == other._first
@@ -92,18 +171,3 @@ def tick(board, standing):
     if word == FIRST or (word == OTHER and last == SECOND):
         return (i + 1) % len(board.first()), j, FIRST
     return i, (j + 1) % len(board.second()), SECOND
-
-
-def path_from(board, standing, ticks):
-    """The standings of a walk, to the last tick or the first that comes again, it too."""
-    path = [standing]
-    seen = set()
-    while len(path) <= ticks and path[-1] not in seen:
-        seen.add(path[-1])
-        path.append(tick(board, path[-1]))
-    return path
-
-
-def first_steps(standings):
-    """How many of the standings the first reader's step has led to."""
-    return len([last for _, _, last in standings if last == FIRST])

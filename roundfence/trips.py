@@ -1,6 +1,6 @@
 """Trips: the walks of a Board that come back to their standings."""
 
-from roundfence.boards import FIRST, SECOND, check_standing, first_steps, tick
+from roundfence.boards import FIRST, SECOND, check_standing, tick
 from roundfence.loops import loops, way_in
 
 
@@ -22,6 +22,11 @@ def comes_to(board, standing):
     check_standing(board, standing)
     follows = ticks_of(board)
     return way_in(follows, loops(follows), standing)
+
+
+def first_steps(trip):
+    """How many of the trip's ticks are the first reader's."""
+    return len([last for _, _, last in trip if last == FIRST])
 
 
 def ticks_of(board):

@@ -69,6 +69,26 @@ def plain_walk(triple, standing, ticks):
     return told
 
 
+def plain_by_laps(triple, standing, ticks):
+    """What is told behind however many ticks, through the laps of a walk that has come again."""
+    walk = [(standing, 0, 0)]
+    known = {standing: 0}
+    while True:
+        at = plain_tick(triple, walk[-1][0])
+        _, firsts, seconds = walk[-1]
+        walk.append((at, firsts + (at[2] == "first"), seconds + (at[2] == "second")))
+        if at in known:
+            break
+        known[at] = len(walk) - 1
+    since = known[at]
+    lap = len(walk) - 1 - since
+    if ticks < since:
+        return walk[ticks]
+    laps, over = divmod(ticks - since, lap)
+    at, firsts, seconds = walk[since + over]
+    return (at, firsts + laps * (walk[-1][1] - walk[since][1]), seconds + laps * (walk[-1][2] - walk[since][2]))
+
+
 def plain_standings(triple):
     first, second, _ = triple
     return [(i, j, last) for i in range(len(first)) for j in range(len(second)) for last in LASTS]
