@@ -1,6 +1,7 @@
 """Boards: two rounds of letters, a rule for who steps, and the going by it."""
 
 from roundfence.errors import NoLast, NoPlace, NoRound, NoRow, NoTicks
+from roundfence.loops import Ways
 
 FIRST = "first"
 SECOND = "second"
@@ -56,6 +57,7 @@ class Board:
         self._second = second
         self._words = words_by_pair(rule)
         self._walks = {}
+        self._ways = {}
 
     def first(self):
         """The first round's letters."""
@@ -91,6 +93,12 @@ class Board:
         seconds = ticks - firsts
         i, j, _ = standing
         return ((i + firsts) % len(self._first), (j + seconds) % len(self._second), last), firsts, seconds
+
+    def ways(self, follows_of):
+        """The ways by the dict that a function makes of this board, worked out but once."""
+        if follows_of not in self._ways:
+            self._ways[follows_of] = Ways(follows_of(self))
+        return self._ways[follows_of]
 
     def _new_walk(self, standing):
         """A walk of no ticks yet, kept for whoever asks for more of it."""
@@ -162,12 +170,3 @@ def check_standing(board, standing):
     board.word(i, j)
     if last not in (FIRST, SECOND):
         raise NoLast(last)
-
-
-def tick(board, standing):
-    """The standing that follows a standing of the board."""
-    i, j, last = standing
-    word = board.word(i, j)
-    if word == FIRST or (word == OTHER and last == SECOND):
-        return (i + 1) % len(board.first()), j, FIRST
-    return i, (j + 1) % len(board.second()), SECOND

@@ -4,7 +4,9 @@ Nothing here uses the program. A board is a triple (first, second, rows) here.
 """
 
 import itertools
+import os
 import signal
+import sys
 import unittest
 
 WORDS = ("first", "second", "other")
@@ -31,6 +33,28 @@ class RefusalCase(PromptCase):
         self.assertIs(type(caught.exception), kind)
         self.assertEqual(caught.exception.what, what)
         self.assertIs(type(caught.exception.what), type(what))
+
+
+def lines_run(call):
+    """How many lines of the program are run by the call: a measure of work that hangs on no clock."""
+    package = os.path.dirname(sys.modules["roundfence"].__file__)
+    count = 0
+
+    def trace(frame, event, told):
+        nonlocal count
+        if not frame.f_code.co_filename.startswith(package):
+            return None
+        count += event == "line"
+        return trace
+
+    before = sys.gettrace()
+    sys.settrace(trace)
+    try:
+        call()
+    finally:
+        sys.settrace(before)
+    assert count > 0, "no line of the program was seen"
+    return count
 
 
 def plain_word(triple, i, j):

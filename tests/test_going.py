@@ -1,16 +1,13 @@
 """Point [7]: go told over and over, in any order, and with how much work."""
 
-import os
-import sys
 import unittest
 
-import roundfence
 from roundfence.around import column, row
 from roundfence.boards import Board
 from roundfence.errors import NoLast, NoPlace, NoTicks
 from roundfence.fences import fences
 from roundfence.trips import comes_to, pace, trips
-from tests.plain import (LASTS, Picks, PromptCase, RefusalCase, long_triples, plain_by_laps, plain_far,
+from tests.plain import (LASTS, Picks, PromptCase, RefusalCase, lines_run, long_triples, plain_by_laps, plain_far,
                          plain_standings, plain_walk, small_triples)
 
 LONG = ("abcdefabcdefabcdefabcdefabcdefabcdefabcd", "aabbccddeefaabbccddeefaabbccddeefabcdef", [])
@@ -18,32 +15,11 @@ FEW = ("abcdefabcdef", "aabbccddeef", [])
 # The first reader is led from place to place into a trip of the second one: long ways and short trips.
 FUNNEL = ("a" * 39 + "b", "a" * 38 + "b", [("a", "a", "other"), ("b", "a", "second"), ("b", "b", "second")])
 FAR = 10 ** 50
-PACKAGE = os.path.dirname(os.path.abspath(roundfence.__file__))
 
 
 def some_standings(triple, many):
     standings = plain_standings(triple)
     return standings[::max(1, len(standings) // many)] + standings[-1:]
-
-
-def lines_run(call):
-    """How many lines of the program are run by the call: a measure of work that hangs on no clock."""
-    count = 0
-
-    def trace(frame, event, told):
-        nonlocal count
-        if not frame.f_code.co_filename.startswith(PACKAGE):
-            return None
-        count += event == "line"
-        return trace
-
-    before = sys.gettrace()
-    sys.settrace(trace)
-    try:
-        call()
-    finally:
-        sys.settrace(before)
-    return count
 
 
 class SameAnswersTest(PromptCase):
